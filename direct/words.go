@@ -18,20 +18,27 @@ var words = [...]string{
 	Pragma:  "pragma",
 }
 
-// kinds is the kinds by their words, made when somebody first asks.
+// kindOf is a word's kind; Unknown, if it is none. It goes through the words, and asks no map, so what a line's kind is hangs on nothing that is made while the program runs.
+func kindOf(word string) int {
+	for kind, named := range words {
+		if named == word && named != "" {
+			return kind
+		}
+	}
+	return Unknown
+}
+
+// kinds is the kinds by their words, made when somebody first asks Named.
 var kinds struct {
 	once sync.Once
 	of   map[string]int
 }
 
-// kindOf is a word's kind; Unknown, if it is none.
-func kindOf(word string) int {
+// Named is the kind that has a word, and whether one has.
+func Named(word string) (int, bool) {
 	kinds.once.Do(makeKinds)
 	kind, is := kinds.of[word]
-	if !is {
-		return Unknown
-	}
-	return kind
+	return kind, is
 }
 
 func makeKinds() {
