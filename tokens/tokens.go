@@ -16,7 +16,17 @@ func Clone(l []api.Token) []api.Token {
 	return l
 }
 
+// Punct is whether a token is a Punct of that Text.
+func Punct(t api.Token, text string) bool {
+	return t.Kind == api.Punct && t.Text == text
+}
+
 // Hash is whether a token is a Punct # or %:.
 func Hash(t api.Token) bool {
-	return t.Kind == api.Punct && (t.Text == "#" || t.Text == "%:")
+	return Punct(t, "#") || Punct(t, "%:")
+}
+
+// Paste is whether a token is a Punct ## or %:%:.
+func Paste(t api.Token) bool {
+	return Punct(t, "##") || Punct(t, "%:%:")
 }

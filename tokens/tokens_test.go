@@ -26,12 +26,21 @@ func TestClone(t *testing.T) {
 	}
 }
 
-func TestHash(t *testing.T) {
-	for _, text := range []string{"", "#", "%:", "##", "%:%:", "%", ":", "??=", "# "} {
+func TestSigns(t *testing.T) {
+	texts := []string{"", "#", "%:", "##", "%:%:", "%", ":", "??=", "# ", "(", "...", "x"}
+	for _, text := range texts {
 		for kind := -1; kind <= 8; kind++ {
-			want := kind == api.Punct && (text == "#" || text == "%:")
-			if got := tokens.Hash(api.Token{Kind: kind, Text: text}); got != want {
-				t.Errorf("%q of kind %d: got %v", text, kind, got)
+			x, punct := api.Token{Kind: kind, Text: text}, kind == api.Punct
+			if got, want := tokens.Hash(x), punct && (text == "#" || text == "%:"); got != want {
+				t.Errorf("Hash of %q of kind %d: got %v", text, kind, got)
+			}
+			if got, want := tokens.Paste(x), punct && (text == "##" || text == "%:%:"); got != want {
+				t.Errorf("Paste of %q of kind %d: got %v", text, kind, got)
+			}
+			for _, other := range texts {
+				if got, want := tokens.Punct(x, other), punct && text == other; got != want {
+					t.Errorf("Punct of %q of kind %d, %q: got %v", text, kind, other, got)
+				}
 			}
 		}
 	}
