@@ -704,3 +704,23 @@ func TestCallsHangOnNothingElse(t *testing.T) {
 		}
 	}
 }
+
+// TestGrows: what Grows tells of a token's Kind and last byte alone is so; of names and numbers it tells all, but of names that go ahead of a quote.
+func TestGrows(t *testing.T) {
+	texts := []string{"a", "L", "u8", "_9", "E", "1", ".5", "1e", "0x1P", "1e+", "1.", "+", ".", "#", "\"x\"", "L'y'", "@"}
+	pieces := []string{"", "a", "1", "_", ".", "e+", "e-1", "+", "p", "p+", "-1", "..", "1.5", "a.b", "a+", "\"x\"", "'x'", "8\"x\"", " ", "\n", "a b", "#", "$", "=", "\x80"}
+	for _, text := range texts {
+		one, ok := lex.One(text)
+		if !ok {
+			t.Errorf("%q is no token", text)
+		}
+		for _, piece := range pieces {
+			both, ok := lex.One(text + piece)
+			is := ok && both.Kind == one.Kind
+			told := lex.Grows(one.Kind, text[len(text)-1], piece)
+			if told && !is || is && !told && (one.Kind == api.Ident || one.Kind == api.Number) {
+				t.Errorf("%q goes on with %q: got %v", text, piece, told)
+			}
+		}
+	}
+}

@@ -17,9 +17,9 @@ func (w *walk) token() (kind, end int) {
 	rest := w.chars[w.at:]
 	switch {
 	case letter(rest[0]):
-		return api.Ident, w.at + wordLen(rest)
+		return api.Ident, w.at + lengthOf(api.Ident, rest)
 	case digit(rest[0]), rest[0] == '.' && digit(rest[1]):
-		return api.Number, w.at + numberLen(rest)
+		return api.Number, w.at + lengthOf(api.Number, rest)
 	}
 	if n := punctLen(rest); n > 0 {
 		return api.Punct, w.at + n
@@ -76,20 +76,24 @@ func lettersAhead(rest string) int {
 	return 0
 }
 
-func wordLen(rest string) int {
+// lengthOf is how many characters a name or a number has.
+func lengthOf(kind int, rest string) int {
 	n := 1
-	for letter(rest[n]) || digit(rest[n]) {
+	for goesOn(kind, rest[n-1], rest[n]) {
 		n++
 	}
 	return n
 }
 
-func numberLen(rest string) int {
-	n := 1
-	for letter(rest[n]) || digit(rest[n]) || rest[n] == '.' || signed(rest[n-1], rest[n]) {
-		n++
+// goesOn is whether a character goes on with a token of a Kind, behind what it has ahead of it. Only names and numbers are told of.
+func goesOn(kind int, ahead, c byte) bool {
+	switch kind {
+	case api.Ident:
+		return letter(c) || digit(c)
+	case api.Number:
+		return letter(c) || digit(c) || c == '.' || signed(ahead, c)
 	}
-	return n
+	return false
 }
 
 // signed is whether a sign goes on with a number, behind what the number has ahead of it.
